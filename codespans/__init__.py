@@ -1,0 +1,1 @@
+"""Tables that tell the source position of every step of a compiled code."""
