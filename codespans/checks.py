@@ -1,6 +1,6 @@
 """What several modules ask of their arguments."""
 
-from codespans.errors import BadLine, BadTable
+from codespans.errors import BadCount, BadLine, BadStep, BadTable
 
 MOST = 2147483647
 
@@ -30,7 +30,31 @@ def check_byte_data(data):
         raise BadTable(-1, "data")
 
 
-def check_first_line(first_line):
-    """Raise BadLine if a thing can't be the first line of a table."""
-    if not is_int_from(first_line, 1, MOST):
-        raise BadLine(first_line)
+def check_source_line(line):
+    """Raise BadLine if a thing can't be a line of a source."""
+    if not is_int_from(line, 1, MOST):
+        raise BadLine(line)
+
+
+def check_any_line(line):
+    """Raise BadLine if a thing is no integer at all."""
+    if not is_int(line):
+        raise BadLine(line)
+
+
+def check_step(step, low, high):
+    """Raise BadStep if a thing is not an integer from low to high."""
+    if not is_int_from(step, low, high):
+        raise BadStep(step)
+
+
+def check_count(many, low, high):
+    """Raise BadCount if a thing is not an integer from low to high."""
+    if not is_int_from(many, low, high):
+        raise BadCount(many)
+
+
+def check_count_from(many, low):
+    """Raise BadCount if a thing is not an integer from low on."""
+    if not is_int(many) or many < low:
+        raise BadCount(many)

@@ -1,9 +1,10 @@
 """Tables: the positions of all steps of a code, as bytes."""
 
-from codespans.checks import check_byte_data, check_first_line, is_int, is_int_from
-from codespans.errors import BadCount, BadLine, BadStep
+from codespans.checks import check_any_line, check_byte_data, check_source_line, check_step, is_int
+from codespans.errors import BadCount
 from codespans.ranges import ranges_of
 from codespans.reading import read_entries
+from codespans.searching import first_from
 from codespans.spans import check_spans, covers, line_of
 from codespans.writing import write_runs
 
@@ -13,7 +14,7 @@ class Table:
 
     def __init__(self, data, first_line):
         check_byte_data(data)
-        check_first_line(first_line)
+        check_source_line(first_line)
         own_data = bytes(data)
         entries = read_entries(own_data, first_line)
         self.data = own_data
@@ -26,13 +27,12 @@ class Table:
     def of(spans, first_line):
         """Return the shortest table for a list or tuple of spans."""
         check_spans(spans)
-        check_first_line(first_line)
+        check_source_line(first_line)
         return Table(write_runs(ranges_of(spans), first_line), first_line)
 
     def span_at(self, step):
         """Return the span of a step."""
-        if not is_int_from(step, 0, self.step_count - 1):
-            raise BadStep(step)
+        check_step(step, 0, self.step_count - 1)
         return self._spans[step]
 
     def spans(self):
@@ -57,23 +57,17 @@ class Table:
 
     def stops(self, line):
         """Return the steps at which a range of this line begins."""
-        if not is_int(line):
-            raise BadLine(line)
+        check_any_line(line)
         return [start for start, _, own_line in self.line_ranges() if own_line == line]
 
     def next_line(self, line):
         """Return the smallest line of the table that is not less than line, or None."""
-        if not is_int(line):
-            raise BadLine(line)
-        for own_line in self.lines():
-            if own_line >= line:
-                return own_line
-        return None
+        check_any_line(line)
+        return first_from(self.lines(), line)
 
     def covering(self, line, column):
         """Return (start, end) for each maximal range of steps that cover a source character."""
-        if not is_int(line):
-            raise BadLine(line)
+        check_any_line(line)
         if not is_int(column):
             raise BadCount(column)
         answers = [covers(span, line, column) for span in self._spans]

@@ -18,6 +18,13 @@ class Case(unittest.TestCase):
             self.assertIs(type(got), type(wanted))
             self.assertEqual(got, wanted)
 
+    def check_refuses(self, error, name, thing, call, *args, **kwargs):
+        """The error keeps the very thing that was refused, whatever it is."""
+        with self.assertRaises(error) as caught:
+            call(*args, **kwargs)
+        self.assertIs(type(caught.exception), error)
+        self.assertIs(getattr(caught.exception, name), thing)
+
 
 class Odd:
     """An object that is nothing that the package takes, and that can't even be shown."""

@@ -4,7 +4,11 @@ import importlib
 import inspect
 import unittest
 
+from codespans.drawing import carets, marked
+from codespans.edits import grow, moved, patch
 from codespans.errors import BadSpan, BadTable
+from codespans.lookup import Index
+from codespans.running import line_events
 from codespans.tables import Table
 from tests.support import Case
 
@@ -14,7 +18,20 @@ FUNCTIONS = {
     "codespans.tables": {
         "difference": ["a", "b"], "shortest": ["table"], "rebased": ["table", "first_line"],
     },
+    "codespans.edits": {
+        "insert": ["table", "step", "spans"], "remove": ["table", "start", "end"], "cut": ["table", "start", "end"],
+        "grow": ["table", "step", "many"], "joined": ["a", "b"], "patch": ["old", "new"],
+        "patched": ["data", "change"], "moved": ["table", "line", "removed", "added"],
+    },
+    "codespans.drawing": {"carets": ["span", "text"], "marked": ["span", "lines"]},
+    "codespans.running": {
+        "line_events": ["table", "path"], "coverage": ["table", "path"], "missing": ["table", "path"],
+        "hits": ["table", "path"], "breaks": ["table", "lines"], "stopped": ["table", "path", "lines"],
+    },
 }
+
+# What is passed by name only, with its default value.
+BY_NAME = {"carets": {"indent": 4, "anchor": None, "tab": 0, "wide": ""}}
 
 CLASSES = {
     "codespans.errors": {
@@ -22,11 +39,15 @@ CLASSES = {
         "BadStep": ["step"], "BadCount": ["many"], "BadText": ["at"], "TooLong": None,
     },
     "codespans.tables": {"Table": ["data", "first_line"]},
+    "codespans.lookup": {"Index": ["table", "every"]},
 }
 
 METHODS = {
-    "span_at": ["step"], "spans": [], "runs": [], "entries": [], "line_ranges": [], "lines": [],
-    "stops": ["line"], "next_line": ["line"], "covering": ["line", "column"],
+    Table: {
+        "span_at": ["step"], "spans": [], "runs": [], "entries": [], "line_ranges": [], "lines": [],
+        "stops": ["line"], "next_line": ["line"], "covering": ["line", "column"],
+    },
+    Index: {"checkpoints": [], "span_at": ["step"]},
 }
 
 
@@ -43,6 +64,7 @@ class InterfaceTest(unittest.TestCase):
                 function = getattr(module, name)
                 self.assertEqual(function.__module__, path)
                 self.assertEqual(names_of(function), parameters)
+                self.assertEqual(inspect.getfullargspec(function).kwonlydefaults, BY_NAME.get(name))
 
     def test_classes(self):
         for path, classes in CLASSES.items():
@@ -54,8 +76,9 @@ class InterfaceTest(unittest.TestCase):
                     self.assertEqual(names_of(found), parameters)
 
     def test_methods_stand_in_the_class_itself(self):
-        for name, parameters in METHODS.items():
-            self.assertEqual(names_of(vars(Table)[name]), ["self", *parameters])
+        for owner, methods in METHODS.items():
+            for name, parameters in methods.items():
+                self.assertEqual(names_of(vars(owner)[name]), ["self", *parameters])
         self.assertIn("__eq__", vars(Table))
         self.assertIn("of", vars(Table))
         self.assertEqual(names_of(Table.of), ["spans", "first_line"])
@@ -72,6 +95,19 @@ class ExamplesTest(Case):
         self.check_raises(BadTable, {"at": 1, "why": "inside"}, Table, [128, 200], 1)
         self.check_raises(BadSpan, {"at": 0}, Table.of, [(0, 0, 0, 0)], 1)
         self.assertEqual(Table.of([(1, 1, 0, 4), (1, 1, 2, 6)], 1).covering(1, 3), [(0, 2)])
+
+    def test_examples_of_lookups_and_edits(self):
+        self.assertEqual(Index(Table.of([None] * 20, 1), 2).checkpoints(), [(0, 0, 1), (16, 2, 1)])
+        self.assertEqual(moved(Table.of([(1, 3, 0, 1)], 1), 2, 0, 5).spans(), [(1, 8, 0, 1)])
+        table = Table.of([(1, 1, 0, 1), (1, 1, 0, 1)], 1)
+        self.assertEqual(patch(table, grow(table, 0, 1)), (0, 1, b"\x82"))
+
+    def test_examples_of_drawings_and_events(self):
+        rows = ["    x =  a + b()", "         ~~^~~~~"]
+        self.assertEqual(carets((1, 1, 5, 12), "x =  a + b()", anchor=(7, 8)), rows)
+        self.assertEqual(marked((1, 2, 4, 3), ["if a:", "    b"]), ["    if a:", "        ^", "        b"])
+        table = Table.of([(1, 1, 0, 1), (2, 2, 0, 1)], 1)
+        self.assertEqual(line_events(table, [0, 1, 0, 1]), [(0, 1), (1, 2), (2, 1), (3, 2)])
 
 
 if __name__ == "__main__":
