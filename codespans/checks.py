@@ -4,6 +4,12 @@ from codespans.errors import BadCount, BadLine, BadStep, BadTable
 
 MOST = 2147483647
 
+# Lists of steps and spans are not written out beyond this length.
+MOST_STEPS = 5000
+
+# So often at most a loop or a repetition runs.
+MOST_TIMES = 1000000000000
+
 
 def is_int(thing):
     """Tell whether any thing is an integer; a bool is none."""
@@ -58,3 +64,8 @@ def check_count_from(many, low):
     """Raise BadCount if a thing is not an integer from low on."""
     if not is_int(many) or many < low:
         raise BadCount(many)
+
+
+def check_times(times):
+    """Raise BadCount if a thing can't be a number of rounds."""
+    check_count(times, 0, MOST_TIMES)

@@ -4,10 +4,13 @@ import importlib
 import inspect
 import unittest
 
+from codespans.coders import Reader, Writer
 from codespans.drawing import carets, marked
 from codespans.edits import grow, moved, patch
 from codespans.errors import BadSpan, BadTable
+from codespans.listings import listing
 from codespans.lookup import Index
+from codespans.ropes import Rope
 from codespans.running import line_events
 from codespans.tables import Table
 from tests.support import Case
@@ -28,6 +31,10 @@ FUNCTIONS = {
         "line_events": ["table", "path"], "coverage": ["table", "path"], "missing": ["table", "path"],
         "hits": ["table", "path"], "breaks": ["table", "lines"], "stopped": ["table", "path", "lines"],
     },
+    "codespans.loops": {
+        "path_of": ["table", "program"], "loop_hits": ["table", "program"], "event_count": ["table", "program"],
+    },
+    "codespans.listings": {"listing": ["table"], "from_listing": ["rows", "first_line"]},
 }
 
 # What is passed by name only, with its default value.
@@ -40,6 +47,8 @@ CLASSES = {
     },
     "codespans.tables": {"Table": ["data", "first_line"]},
     "codespans.lookup": {"Index": ["table", "every"]},
+    "codespans.ropes": {"Rope": ["parts"]},
+    "codespans.coders": {"Writer": ["first_line"], "Reader": ["first_line"]},
 }
 
 METHODS = {
@@ -48,6 +57,11 @@ METHODS = {
         "stops": ["line"], "next_line": ["line"], "covering": ["line", "column"],
     },
     Index: {"checkpoints": [], "span_at": ["step"]},
+    Rope: {
+        "span_at": ["step"], "place_of": ["step"], "count_of": ["line"], "run_at": ["step"], "spans": ["start", "end"],
+    },
+    Writer: {"add": ["span", "steps"], "table": []},
+    Reader: {"feed": ["piece"], "close": []},
 }
 
 
@@ -83,6 +97,15 @@ class InterfaceTest(unittest.TestCase):
         self.assertIn("of", vars(Table))
         self.assertEqual(names_of(Table.of), ["spans", "first_line"])
 
+    def test_attributes_are_set_when_an_object_is_created(self):
+        table = Table.of([None], 1)
+        for made, names in (
+            (table, ["data", "first_line", "step_count"]), (Index(table, 1), ["entries_read"]),
+            (Rope([(table, 2)]), ["step_count"]), (Writer(1), ["step_count"]), (Reader(1), ["step_count", "pending"]),
+        ):
+            for name in names:
+                self.assertIn(name, vars(made))
+
 
 class ExamplesTest(Case):
     def test_examples(self):
@@ -108,6 +131,10 @@ class ExamplesTest(Case):
         self.assertEqual(marked((1, 2, 4, 3), ["if a:", "    b"]), ["    if a:", "        ^", "        b"])
         table = Table.of([(1, 1, 0, 1), (2, 2, 0, 1)], 1)
         self.assertEqual(line_events(table, [0, 1, 0, 1]), [(0, 1), (1, 2), (2, 1), (3, 2)])
+
+    def test_examples_of_ropes_and_listings(self):
+        self.assertEqual(Rope([(Table.of([None], 1), 10 ** 12)]).run_at(5), (0, 1000000000000, None))
+        self.assertEqual(listing(Table.of([(5, 5, 4, 9), None], 1)), ["0-1 5:4-5:9", "1-2 none"])
 
 
 if __name__ == "__main__":
